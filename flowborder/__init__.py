@@ -1,0 +1,1 @@
+"""Flowborder: secrets and lookers, and which rules may be left out against which of them."""
