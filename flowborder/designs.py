@@ -16,6 +16,7 @@ WORDS = (
     "under",
     "whiles",
 )
+LOOKER = ("ends seen", "prints seen", "steps seen")
 
 
 def is_design(value):
@@ -35,3 +36,12 @@ def check_design(value):
     """Raise BadDesign for a value that is no design."""
     if not is_design(value):
         raise BadDesign("no design")
+
+
+def with_word(design, word):
+    """The design with a word that it does not hold yet."""
+    return tuple(sorted(design + (word,)))
+
+
+def without_word(design, word):
+    return tuple([held for held in design if held != word])

@@ -3,12 +3,16 @@
 import unittest
 from copy import deepcopy
 
+from flowborder.borders import breaker, fewest_drops, greatest_sound, is_sound, lots, lots_in
 from flowborder.checker import fault, lets_by
+from flowborder.compares import lets_by_all, parting, sees_all, strengths, unseen
 from flowborder.designs import is_design
-from flowborder.errors import BadDesign, BadProgram, BadStart, FlowError, NotMade
+from flowborder.desks import Desk
+from flowborder.errors import BadDesign, BadProgram, BadStart, FlowError, NotMade, NotText
 from flowborder.looks import alike, leak
 from flowborder.programs import is_program
 from flowborder.runs import run
+from flowborder.texts import read_program, write_program
 
 DESIGN = ("ends seen", "ifs")
 PROGRAM = (("open", "secret"), (("if", 1, (("stop",),), ()), ("keep", "open", 0, 1), ("print", 0)))
@@ -16,7 +20,9 @@ THREE_SECRETS = (("open", "secret", "secret", "secret"), ())
 START = (7, 2)
 
 WRONG_DESIGNS = [("tells", "ifs"), ["ifs"], None, 0, {}, True]
-WRONG_PROGRAMS = [(None, None), (0, ((), ())), (1, (("open", "secret"), [])), (None, []), (1, (("open",), (("stop", 0),)))]
+WRONG_PROGRAMS = [
+    (None, None), (0, ((), ())), (1, (("open", "secret"), [])), (None, []), (1, (("open",), (("stop", 0),))),
+]
 WRONG_STARTS = [(7, 10), (7,), [7, 2], None, 0, (True, 0), {}]
 
 
@@ -32,6 +38,7 @@ class OrderOfErrors(unittest.TestCase):
             for _, program in WRONG_PROGRAMS + [(None, PROGRAM), (None, THREE_SECRETS)]:
                 self.assert_error(BadDesign, fault, design, program)
                 self.assert_error(BadDesign, lets_by, design, program)
+                self.assert_error(BadDesign, Desk, design, program)
                 for start in WRONG_STARTS + [START, (0, 0, 0, 0)]:
                     self.assert_error(BadDesign, alike, design, program, start, start)
                     self.assert_error(BadDesign, alike, design, program, START, start)
@@ -48,6 +55,19 @@ class OrderOfErrors(unittest.TestCase):
                     (leak, (DESIGN, program, start)),
                 ):
                     self.assertIs(self.assert_error(BadProgram, function, *arguments).part, part)
+
+    def test_a_wrong_program_of_a_text_or_a_desk(self):
+        for part, program in WRONG_PROGRAMS:
+            self.assertIs(self.assert_error(BadProgram, write_program, program).part, part)
+            self.assertIs(self.assert_error(BadProgram, Desk, DESIGN, program).part, part)
+
+    def test_wrong_designs_of_one_argument_or_two(self):
+        for design in WRONG_DESIGNS:
+            for function in (lots_in, is_sound, breaker, greatest_sound, fewest_drops, strengths):
+                self.assert_error(BadDesign, function, design)
+            for function in (lets_by_all, parting, sees_all, unseen):
+                for arguments in ((design, DESIGN), (DESIGN, design), (design, design)):
+                    self.assert_error(BadDesign, function, *arguments)
 
     def test_a_program_as_a_design_and_the_other_way_round(self):
         self.assert_error(BadDesign, fault, PROGRAM, DESIGN)
@@ -68,6 +88,9 @@ class OrderOfErrors(unittest.TestCase):
     def test_not_made_goes_last(self):
         self.assert_error(NotMade, alike, DESIGN, PROGRAM, (6, 2), (7, 2))
         self.assert_error(NotMade, leak, DESIGN, THREE_SECRETS, (0, 0, 0, 0))
+        self.assert_error(NotMade, greatest_sound, ("marks",))
+        self.assert_error(BadDesign, greatest_sound, ["marks"])
+        self.assert_error(BadDesign, greatest_sound, ("straight", "marks"))
 
     def test_all_are_value_errors(self):
         for call in (
@@ -90,7 +113,23 @@ class ArgumentsStay(unittest.TestCase):
             self.assertEqual(run(program, other)[2][0], (0,) * 10)
             self.assertIs(alike(design, program, start, other), False)
             self.assertEqual(leak(design, program, start), (7, 0))
+            self.assertEqual((is_sound(design), lots_in(design), breaker(design)), (True, (), None))
+            self.assertEqual(len(greatest_sound(design)), 2)
+            self.assertEqual((fewest_drops(design), strengths(design)), ((), ("ifs",)))
+            self.assertEqual((lets_by_all(design, design), parting(design, design)), (True, None))
+            self.assertEqual((sees_all(design, design), unseen(design, design)), (True, None))
+            self.assertEqual(read_program(write_program(program)), program)
+            desk = Desk(design, program)
+            answers = [desk.run(line) for line in ("fault", "permit tells", "forbid ifs")]
+            self.assertEqual(answers, ["0.0.0", None, None])
+            self.assertEqual(desk.design, ("ends seen", "tells"))
         self.assertEqual((design, program, start, other), (DESIGN, PROGRAM, START, (7, 0)))
+
+    def test_what_was_given_back_once(self):
+        wanted = lots(), breaker(("marks",)), parting((), DESIGN), unseen((), DESIGN), greatest_sound(())
+        for _ in range(3):
+            found = lots(), breaker(("marks",)), parting((), DESIGN), unseen((), DESIGN), greatest_sound(())
+            self.assertEqual(found, wanted)
 
     def test_wrong_arguments(self):
         values = [
@@ -104,7 +143,11 @@ class ArgumentsStay(unittest.TestCase):
             for function, arguments in (
                 (fault, (value, PROGRAM)), (fault, ((), value)), (lets_by, (value, value)), (run, (value, START)),
                 (run, (PROGRAM, value)), (alike, ((), PROGRAM, value, value)), (alike, ((), value, START, START)),
-                (leak, ((), PROGRAM, value)), (leak, (value, value, value)),
+                (leak, ((), PROGRAM, value)), (leak, (value, value, value)), (lots_in, (value,)), (breaker, (value,)),
+                (greatest_sound, (value,)), (fewest_drops, (value,)), (strengths, (value,)), (parting, (value, value)),
+                (lets_by_all, ((), value)), (sees_all, (value, ())), (unseen, ((), value)), (write_program, (value,)),
+                (read_program, (value,)), (Desk, (value, PROGRAM)), (Desk, ((), value)),
+                (Desk((), PROGRAM).run, (value,)),
             ):
                 with self.assertRaises(FlowError):
                     function(*arguments)
@@ -119,6 +162,8 @@ class ArgumentsStay(unittest.TestCase):
                 run(PROGRAM, (7, 10))
             with self.assertRaises(BadProgram):
                 fault((), None)
+            with self.assertRaises(NotText):
+                read_program(None)
         self.assertEqual((run(PROGRAM, START), fault((), PROGRAM), leak(DESIGN, PROGRAM, START)), before)
 
 

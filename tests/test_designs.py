@@ -2,8 +2,9 @@
 
 import unittest
 
+from flowborder.borders import is_sound
 from flowborder.designs import is_design
-from flowborder.errors import BadDesign
+from flowborder.errors import BadDesign, NotMade
 
 from tests.helpers import ALWAYS_WRONG, calls_with_design, subsets
 
@@ -91,7 +92,10 @@ class Designs(unittest.TestCase):
     def test_right_designs_are_taken(self):
         for design in ((), WORDS, ("ifs",), ("ends seen", "whiles")):
             for call in calls_with_design(design, PROGRAM, (0, 0)):
-                self.assertIn(call(), (None, True))
+                try:
+                    call()
+                except NotMade:
+                    self.assertFalse(is_sound(design))
 
 
 if __name__ == "__main__":

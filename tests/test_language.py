@@ -16,18 +16,29 @@ INTERFACE = {
     "checker.py": ["fault", "lets_by"],
     "runs.py": ["run"],
     "looks.py": ["alike", "leak"],
+    "borders.py": ["lots", "lots_in", "greatest_sound", "fewest_drops", "is_sound", "breaker"],
+    "compares.py": ["strengths", "lets_by_all", "sees_all", "parting", "unseen"],
+    "texts.py": ["write_program", "read_program"],
+    "desks.py": ["Desk"],
 }
+
+METHODS = {"__init__": ["self", "design", "program"], "run": ["self", "line"], "undo": ["self"], "design": ["self"]}
 
 PARAMETERS = {
     "is_program": ["value"], "is_design": ["value"], "fault": ["design", "program"],
     "lets_by": ["design", "program"], "run": ["program", "start"], "alike": ["design", "program", "one", "other"],
-    "leak": ["design", "program", "start"],
+    "leak": ["design", "program", "start"], "lots": [], "lots_in": ["design"], "greatest_sound": ["design"],
+    "fewest_drops": ["design"], "is_sound": ["design"], "breaker": ["design"], "strengths": ["design"],
+    "lets_by_all": ["one", "other"], "sees_all": ["one", "other"], "parting": ["one", "other"],
+    "unseen": ["one", "other"], "write_program": ["program"], "read_program": ["text"],
 }
 
 BUILTINS = {
     "len", "range", "enumerate", "zip", "min", "max", "sum", "abs", "sorted", "reversed", "int", "str", "bool", "list",
-    "tuple", "dict", "set", "isinstance", "ord", "repr", "any", "all", "divmod", "super", "ValueError",
+    "tuple", "dict", "set", "isinstance", "ord", "repr", "any", "all", "divmod", "super", "property", "ValueError",
 }
+
+LIBRARY = {"itertools": ["combinations"]}
 
 AT_MODULE_LEVEL = (ast.ImportFrom, ast.FunctionDef, ast.ClassDef, ast.Assign, ast.Expr)
 
@@ -72,7 +83,9 @@ class Files(unittest.TestCase):
         for path in files():
             for node in ast.walk(tree_of(path)):
                 self.assertNotIsInstance(node, ast.Import, path.name)
-                if isinstance(node, ast.ImportFrom):
+                if isinstance(node, ast.ImportFrom) and node.module in LIBRARY:
+                    self.assertEqual([alias.name for alias in node.names], LIBRARY[node.module])
+                elif isinstance(node, ast.ImportFrom):
                     self.assertTrue(node.module.startswith("flowborder."), path.name)
                     origin = PACKAGE / (node.module.split(".")[1] + ".py")
                     defined = [name for row in tree_of(origin).body for name in self.defined_by(row)]
@@ -113,6 +126,25 @@ class Interface(unittest.TestCase):
                 if word in PARAMETERS:
                     found = [arg.arg for arg in rows[word].args.args]
                     self.assertEqual(found, PARAMETERS[word])
+
+    def test_the_methods_stand_in_the_class(self):
+        desk = [row for row in tree_of(PACKAGE / "desks.py").body if isinstance(row, ast.ClassDef)][0]
+        methods = {row.name: row for row in desk.body if isinstance(row, ast.FunctionDef)}
+        for name, wanted in METHODS.items():
+            self.assertEqual([arg.arg for arg in methods[name].args.args], wanted)
+            decorators = [row.id for row in methods[name].decorator_list]
+            self.assertEqual(decorators, ["property"] if name == "design" else [])
+
+    def test_no_two_files_import_from_each_other(self):
+        wanted = {}
+        for path in files():
+            rows = [row for row in tree_of(path).body if isinstance(row, ast.ImportFrom)]
+            wanted[path.stem] = {row.module.split(".")[-1] for row in rows if row.module not in LIBRARY}
+        while wanted:
+            free = [name for name, others in wanted.items() if not others & set(wanted)]
+            self.assertTrue(free, wanted)
+            for name in free:
+                del wanted[name]
 
 
 if __name__ == "__main__":

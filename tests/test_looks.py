@@ -8,12 +8,11 @@ from flowborder.errors import BadStart, NotMade
 from flowborder.looks import alike, leak
 from flowborder.runs import run
 
-from tests.helpers import SEEN, STRENGTHS, subsets
+from tests.helpers import LOTS, PAIR, SEEN, STRENGTHS, subsets
 from tests.oracle import expected_alike, some_programs
 
 STOP = ("stop",)
 LOOKERS = subsets(SEEN)
-PAIR = ("open", "secret")
 
 # Name 0 is open. Secret names: 1 and 2 choose how the run ends, 3 is left in name 0, 4 is printed if it is
 # not 0, 5 makes a step more if it is not 0. Nothing else differs, above all not the steps.
@@ -32,22 +31,6 @@ KNOBS = (
 )
 CHOICES = {"stops": (1, 1), "breaks": (1, 0), "goes on": (0, 1), "ends": (0, 0)}
 FINISHED = ("ends", "stops")
-
-LOTS = [
-    (("ends seen", "splits"), (("split", 1, 1),)),
-    (("ends seen", "whiles"), (("while", 1, ()),)),
-    (("ifs", "prints", "prints seen"), (("if", 1, (("print", 0),), ()),)),
-    (("ifs", "steps seen"), (("if", 1, (("sum", 1, (), 0),), ()),)),
-    (("ifs", "stops"), (("if", 1, (("stop",),), ()), ("sum", 0, (), 1))),
-    (("ifs", "under"), (("if", 1, (("sum", 0, (), 1),), ()),)),
-    (("marks",), (("sum", 0, (), 1), ("keep", "open", 1, 0))),
-    (("prints", "prints seen", "whiles"), (("while", 1, (("print", 0), ("sum", 1, (), 0))),)),
-    (("prints seen", "tells"), (("print", 1),)),
-    (("steps seen", "whiles"), (("while", 1, (("sum", 1, (), 0),)),)),
-    (("stops", "whiles"), (("while", 1, (("stop",),)), ("sum", 0, (), 1))),
-    (("straight",), (("sum", 0, (1,), 0),)),
-    (("under", "whiles"), (("while", 1, (("sum", 0, (), 1), ("sum", 1, (), 0))),)),
-]
 
 
 def knobs(how, left=0, printed=0, longer=0):
@@ -222,7 +205,8 @@ class Leak(unittest.TestCase):
         self.assertEqual(leak((), (sorts, (("sum", 1, (0,), 0),)), (0, 5, 7)), (1, 5, 0))
         self.assertEqual(leak((), (sorts, (("sum", 1, (0,), 0),)), (4, 5, 7)), (0, 5, 0))
         self.assertEqual(leak((), (sorts, (("sum", 1, (2,), 0),)), (4, 5, 0)), (0, 5, 1))
-        late = (sorts, (("sum", 0, (0,), 1), ("sum", 2, (2,), 1), ("if", 0, (), (("if", 2, (), (("sum", 1, (1,), 1),)),))))
+        inner = ("if", 2, (), (("sum", 1, (1,), 1),))
+        late = (sorts, (("sum", 0, (0,), 1), ("sum", 2, (2,), 1), ("if", 0, (), (inner,))))
         self.assertEqual(leak((), late, (0, 5, 0)), (9, 5, 9))
         self.assertEqual(leak((), late, (9, 5, 9)), (0, 5, 0))
         self.assertEqual(leak(("prints seen",), (("open",) * 4 + ("secret",) * 2, (("print", 5),)), (1, 2, 3, 4, 5, 6)),
